@@ -1,0 +1,1 @@
+"""Histograms of columns and what they say, each answer with evidence."""

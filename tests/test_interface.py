@@ -1,0 +1,72 @@
+"""Each name of the interface stands in its file, with the arguments that it lists."""
+import ast
+import importlib
+import inspect
+import unittest
+from pathlib import Path
+
+PACKAGE = Path(__file__).resolve().parent.parent / "bucketsums"
+
+FUNCTIONS = {
+    "histograms": {
+        "histogram": "column cuts", "caps_of": "column cuts", "fills_of": "column cuts",
+        "estimate": "hist first past", "coarser": "hist cuts",
+    },
+    "squares": {
+        "square_error": "column cuts", "best_squares": "column buckets", "least_square": "column buckets",
+        "best_grouping": "column groups", "least_grouping": "column groups", "square_profile": "column",
+    },
+}
+CLASSES = {
+    "columns": {
+        "Column": {"__init__": "counts", "rows": "", "prefixes": "", "filled": "", "steps": "",
+                   "sorted_rows": "", "between": "first past", "__len__": "", "__getitem__": None,
+                   "__eq__": None},
+    },
+    "histograms": {
+        "Histogram": {"__init__": "width cuts totals", "buckets": "", "__len__": "", "__eq__": None},
+    },
+    "squares": {
+        "Squares": {"__init__": "cuts sums", "shows": "column buckets", "__eq__": None},
+        "Grouping": {"__init__": "groups sums", "shows": "column buckets", "__eq__": None},
+    },
+}
+
+
+def arguments(function):
+    """The names of the arguments, separated by blanks."""
+    return " ".join(name for name in inspect.signature(function).parameters if name != "self")
+
+
+class Interface(unittest.TestCase):
+    def test_functions(self):
+        for module, functions in FUNCTIONS.items():
+            here = importlib.import_module(f"bucketsums.{module}")
+            for name, wanted in functions.items():
+                with self.subTest(module=module, name=name):
+                    function = getattr(here, name)
+                    self.assertEqual(function.__module__, f"bucketsums.{module}")
+                    self.assertTrue(inspect.isfunction(function))
+                    self.assertEqual(arguments(function), wanted)
+
+    def test_classes(self):
+        for module, classes in CLASSES.items():
+            here = importlib.import_module(f"bucketsums.{module}")
+            for name, methods in classes.items():
+                for method, wanted in methods.items():
+                    with self.subTest(module=module, name=name, method=method):
+                        self.assertEqual(getattr(here, name).__module__, f"bucketsums.{module}")
+                        self.assertIn(method, vars(getattr(here, name)))
+                        if wanted is not None:
+                            self.assertEqual(arguments(vars(getattr(here, name))[method]), wanted)
+
+    def test_defined_where_they_are_listed(self):
+        for module in sorted(set(FUNCTIONS) | set(CLASSES)):
+            tree = ast.parse((PACKAGE / f"{module}.py").read_text())
+            defined = [node.name for node in tree.body if isinstance(node, (ast.FunctionDef, ast.ClassDef))]
+            for name in list(FUNCTIONS.get(module, {})) + list(CLASSES.get(module, {})):
+                self.assertEqual(defined.count(name), 1, name)
+
+
+if __name__ == "__main__":
+    unittest.main()
