@@ -17,8 +17,8 @@ class Histogram:
         if not _are_totals(totals, bucket_pairs(cuts, width)):
             raise BadHistogram("the totals are not possible for the buckets")
         self.width = width
-        self.cuts = tuple(cuts)
-        self.totals = tuple(totals)
+        self.cuts = cuts
+        self.totals = totals
 
     def __eq__(self, other):
         return (isinstance(other, Histogram) and self.width == other.width

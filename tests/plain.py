@@ -8,12 +8,27 @@ from fractions import Fraction
 from itertools import combinations, product
 
 from bucketsums.columns import Column
+from bucketsums.histograms import Histogram
 
 # Nothing of this is an integer.
 NOT_INTEGERS = (None, True, False, "1", b"1", [1], (1,), {1: 1}, {1}, len, Column([1]))
 
 # Nothing of this is a list, a tuple, a column or a histogram.
 STRANGE = (None, True, False, 0, 3, "12", b"12", {0: 1}, {0}, frozenset([0]), range(2), len, Column)
+NOT_COLUMNS = STRANGE + ((1, 2), [1, 2], Histogram(1, (0,), (1,)))
+NOT_HISTOGRAMS = STRANGE + ((3, (0, 1), (1, 2)), Column((1, 2, 3)), Histogram)
+
+# Nothing of this is cuts of three values.
+NOT_CUTS = STRANGE + (
+    [0], [0, 1], (), (1,), (1, 2), (0, 0), (0, 2, 1), (0, 3), (0, 1, 2, 3), (-1, 0), (0, -1),
+    ((0,),), (False,), (0, True), (0, "1"), (0, None), (None,), ("0",), (0, (1,)), (0, [1]),
+)
+
+# No pair of this is a range of three values.
+NOT_RANGES = (
+    ((-1, 2), (0, 4), (1, 1), (2, 1), (3, 3), (3, 4), (0, 0), (0, 10 ** 30))
+    + tuple((item, 2) for item in NOT_INTEGERS) + tuple((0, item) for item in NOT_INTEGERS)
+)
 
 
 def all_cuts(width):
@@ -94,3 +109,29 @@ def some_counts(many, most_width, seed, most=9):
 def all_counts(width, most):
     """All tuples of counts up to a greatest count."""
     return list(product(range(most + 1), repeat=width))
+
+
+def columns_of(hist, caps):
+    """The counts of all columns with a histogram and caps, without a limit on totals."""
+    found = [()]
+    for (start, end), total, cap in zip(hist.buckets(), hist.totals, caps):
+        more = [counts for counts in all_counts(end - start, cap) if sum(counts) == total]
+        found = [counts + other for counts in found for other in more]
+    return found
+
+
+def small_histograms():
+    """Small histograms with caps that are possible, the edges among them."""
+    found = []
+    for width in (1, 2, 3, 4):
+        for cuts in all_cuts(width):
+            sizes = [len(part) for part in parts(range(width), cuts)]
+            for seed in range(3):
+                source = random.Random(f"{cuts} {width} {seed}")
+                caps = tuple(source.randint(0, 3) for _ in sizes)
+                totals = tuple(source.randint(0, cap * size) for cap, size in zip(caps, sizes))
+                found.append((Histogram(width, cuts, totals), caps))
+            full = tuple(3 * size for size in sizes)
+            found.append((Histogram(width, cuts, full), (3,) * len(sizes)))
+            found.append((Histogram(width, cuts, (0,) * len(sizes)), (0,) * len(sizes)))
+    return found

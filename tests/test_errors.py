@@ -30,7 +30,9 @@ class Errors(unittest.TestCase):
             with self.subTest(name=name):
                 self.assertEqual(getattr(errors, name)(3).index, 3)
                 self.assertIsNone(getattr(errors, name)(None).index)
+                self.assertRegex(str(getattr(errors, name)(3)), "[a-z]+ [a-z]+")
         self.assertEqual(errors.BadText(2).line, 2)
+        self.assertRegex(str(errors.BadText(2)), "[a-z]+ [a-z]+")
 
     def test_plain_ones_take_words(self):
         for name in PLAIN:

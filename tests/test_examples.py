@@ -28,6 +28,49 @@ SQUARES = """
 [(1, 2), [(0, 3), (1, 2)], (1, 2), True]
 """
 
+GREATEST = """
+>>> from bucketsums.columns import Column
+>>> from bucketsums.greatest import Spans, best_spans, fewest_within, greatest_span, least_span, span_profile
+>>> column = Column((1, 3, 3, 0))
+>>> [greatest_span(column, (0, 2)), least_span(column, 2), span_profile(column), fewest_within(column, 1), best_spans(column, 2).shows(column, 2)]
+[3, 2, [3, 2, 0, 0], 3, True]
+>>> [Spans((0, 3), (0, 1, 3)).shows(column, 2), Spans((0, 2), (0, 1, 3)).shows(column, 2), Spans((0, 1, 3), ()).shows(column, 3)]
+[True, False, True]
+"""
+
+BOUNDS = """
+>>> from bucketsums.bounds import Ends, capped_ends, possible_sums, reach_ends, sum_ends
+>>> from bucketsums.histograms import Histogram
+>>> hist = Histogram(4, (0, 2), (4, 3))
+>>> [sum_ends(hist, 1, 3), capped_ends(hist, (3, 3), 1, 3), possible_sums(hist, (3, 3), (2, 1), 1, 3), possible_sums(hist, (3, 3), (2, 1), 2, 3)]
+[(0, 7), (1, 6), [1, 2, 3, 4, 5, 6], [0, 3]]
+>>> [Ends((3, 1, 0, 3), (1, 3, 3, 0)).shows(hist, (3, 3), 1, 3), Ends((4, 0, 0, 3), (1, 3, 3, 0)).shows(hist, (3, 3), 1, 3), reach_ends(hist, (9, 9), 1, 3).shows(hist, (9, 9), 1, 3)]
+[True, False, True]
+"""
+
+NOTES = """
+>>> from bucketsums.notes import Agreeing, Conflict, is_implied, judge_notes, needed_notes, tightest
+>>> notes, bad = [(0, 2, 3, 5), (1, 3, 0, 2)], [(0, 2, 3, 5), (0, 1, 0, 0), (1, 2, 0, 2)]
+>>> [tightest(3, notes, 0, 1), tightest(3, notes, 2, 3), judge_notes(3, notes).shows(3, notes), Agreeing((1, 2, 0)).shows(3, notes), Agreeing((2, 0, 0)).shows(3, notes)]
+[(1, 5), (0, 2), True, True, False]
+>>> [Conflict([('most', 1), ('most', 2), ('least', 0)]).shows(2, bad), Conflict([('most', 1), ('cap', 1), ('least', 0)]).shows(2, bad), judge_notes(2, bad).shows(2, bad)]
+[True, False, True]
+>>> some = [(0, 1, 0, 4), (1, 2, 0, 2), (0, 2, 0, 6)]
+>>> [is_implied(2, some, 2), is_implied(2, some, 0), needed_notes(2, some), needed_notes(2, [(0, 1, 0, 9)])]
+[True, False, [0, 1], []]
+"""
+
+JOINS = """
+>>> from bucketsums.columns import Column
+>>> from bucketsums.histograms import Histogram
+>>> from bucketsums.joins import Joined, join_ends, join_estimate, join_size, reach_join
+>>> one, caps, other, late = Histogram(4, (0, 2), (4, 3)), (3, 3), Histogram(4, (0, 2), (2, 2)), (2, 1)
+>>> [join_size(Column((1, 3)), Column((2, 0))), join_ends(one, caps, other, late), join_estimate(one, caps, other, late), reach_join(one, caps, other, late).shows(one, caps, other, late)]
+[2, (5, 9), (7, 1), True]
+>>> [Joined(((3, 1, 3, 0), (0, 2, 1, 1)), ((3, 1, 3, 0), (2, 0, 1, 1))).shows(one, caps, other, late), Joined(((3, 1, 3, 0), (1, 1, 1, 1)), ((3, 1, 3, 0), (2, 0, 1, 1))).shows(one, caps, other, late)]
+[True, False]
+"""
+
 
 class Examples(unittest.TestCase):
     def run_example(self, name, text):
@@ -45,6 +88,18 @@ class Examples(unittest.TestCase):
 
     def test_squares(self):
         self.run_example("squares", SQUARES)
+
+    def test_greatest(self):
+        self.run_example("greatest", GREATEST)
+
+    def test_bounds(self):
+        self.run_example("bounds", BOUNDS)
+
+    def test_notes(self):
+        self.run_example("notes", NOTES)
+
+    def test_joins(self):
+        self.run_example("joins", JOINS)
 
 
 if __name__ == "__main__":

@@ -6,14 +6,10 @@ from bucketsums.columns import Column
 from bucketsums.errors import BadColumn, BadCuts, BadHistogram, BadRange
 from bucketsums.histograms import Histogram, caps_of, coarser, estimate, fills_of, histogram
 from tests.checking import Case
-from tests.plain import (NOT_INTEGERS, STRANGE, all_cuts, all_ranges, pair_of, parts, some_counts)
+from tests.plain import (NOT_COLUMNS, NOT_CUTS, NOT_HISTOGRAMS, NOT_INTEGERS, NOT_RANGES, STRANGE, all_cuts,
+                         all_ranges, pair_of, parts, some_counts)
 
 ORDINARY = some_counts(12, 6, 2) + [(0,), (9,), (9,) * 12, (0,) * 12]
-# Nothing of this is cuts of three values.
-NOT_CUTS = STRANGE + (
-    [0], [0, 1], (), (1,), (1, 2), (0, 0), (0, 2, 1), (0, 3), (0, 1, 2, 3), (-1, 0), (0, -1),
-    ((0,),), (False,), (0, True), (0, "1"), (0, None), (None,), ("0",), (0, (1,)), (0, [1]),
-)
 
 
 def few_cuts(width):
@@ -98,24 +94,19 @@ class Wrong(Case):
         column = Column((1, 2, 3))
         for call in (histogram, caps_of, fills_of):
             self.all_raise(BadCuts, call, [(column, cuts) for cuts in NOT_CUTS])
-            wrong = STRANGE + ((1, 2, 3), [1, 2, 3], Histogram(3, (0,), (6,)))
-            self.all_raise(BadColumn, call, [(item, (0,)) for item in wrong])
-            self.all_raise(BadColumn, call, [(item, None) for item in wrong])
+            self.all_raise(BadColumn, call, [(item, (0,)) for item in NOT_COLUMNS])
+            self.all_raise(BadColumn, call, [(item, None) for item in NOT_COLUMNS])
 
     def test_estimate(self):
         hist = Histogram(3, (0, 1), (1, 2))
-        wrong = STRANGE + ((3, (0, 1), (1, 2)), Column((1, 2, 3)))
-        self.all_raise(BadHistogram, estimate, [(item, 0, 1) for item in wrong])
-        self.all_raise(BadHistogram, estimate, [(item, 1, 1) for item in wrong])
-        ranges = [(-1, 2), (0, 4), (1, 1), (2, 1), (3, 4)]
-        ranges += [(item, 2) for item in NOT_INTEGERS] + [(0, item) for item in NOT_INTEGERS]
-        self.all_raise(BadRange, estimate, [(hist,) + pair for pair in ranges])
+        self.all_raise(BadHistogram, estimate, [(item, 0, 1) for item in NOT_HISTOGRAMS])
+        self.all_raise(BadHistogram, estimate, [(item, 1, 1) for item in NOT_HISTOGRAMS])
+        self.all_raise(BadRange, estimate, [(hist,) + pair for pair in NOT_RANGES])
 
     def test_coarser(self):
         hist = Histogram(3, (0, 1), (1, 2))
-        wrong = STRANGE + (Column((1, 2, 3)),)
-        self.all_raise(BadHistogram, coarser, [(item, (0,)) for item in wrong])
-        self.all_raise(BadHistogram, coarser, [(item, (1,)) for item in wrong])
+        self.all_raise(BadHistogram, coarser, [(item, (0,)) for item in NOT_HISTOGRAMS])
+        self.all_raise(BadHistogram, coarser, [(item, (1,)) for item in NOT_HISTOGRAMS])
         self.all_raise(BadCuts, coarser, [(hist, cuts) for cuts in NOT_CUTS if cuts != (0, 1)])
         self.all_raise(BadCuts, coarser, [(hist, (0, 2)), (hist, (0, 1, 2)), (hist, (1,))])
 

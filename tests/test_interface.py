@@ -16,6 +16,23 @@ FUNCTIONS = {
         "square_error": "column cuts", "best_squares": "column buckets", "least_square": "column buckets",
         "best_grouping": "column groups", "least_grouping": "column groups", "square_profile": "column",
     },
+    "greatest": {
+        "greatest_span": "column cuts", "best_spans": "column buckets", "least_span": "column buckets",
+        "fewest_within": "column span", "span_profile": "column",
+    },
+    "bounds": {
+        "sum_ends": "hist first past", "capped_ends": "hist caps first past",
+        "reach_ends": "hist caps first past", "possible_sums": "hist caps fills first past",
+    },
+    "notes": {
+        "judge_notes": "values notes", "tightest": "values notes first past",
+        "reach_tightest": "values notes first past", "is_implied": "values notes index",
+        "needed_notes": "values notes",
+    },
+    "joins": {
+        "join_size": "one other", "join_ends": "one caps other late", "reach_join": "one caps other late",
+        "join_estimate": "one caps other late",
+    },
 }
 CLASSES = {
     "columns": {
@@ -30,6 +47,13 @@ CLASSES = {
         "Squares": {"__init__": "cuts sums", "shows": "column buckets", "__eq__": None},
         "Grouping": {"__init__": "groups sums", "shows": "column buckets", "__eq__": None},
     },
+    "greatest": {"Spans": {"__init__": "cuts marks", "shows": "column buckets", "__eq__": None}},
+    "bounds": {"Ends": {"__init__": "least greatest", "shows": "hist caps first past", "__eq__": None}},
+    "notes": {
+        "Agreeing": {"__init__": "counts", "shows": "values notes", "__eq__": None},
+        "Conflict": {"__init__": "walk", "shows": "values notes", "__eq__": None},
+    },
+    "joins": {"Joined": {"__init__": "least greatest", "shows": "one caps other late", "__eq__": None}},
 }
 
 

@@ -5,18 +5,15 @@ from itertools import permutations
 
 from bucketsums.columns import Column
 from bucketsums.errors import BadColumn, BadCuts, BadNumber
-from bucketsums.histograms import Histogram
 from bucketsums.squares import (Grouping, Squares, best_grouping, best_squares, least_grouping,
                                 least_square, square_error, square_profile)
 from tests.checking import Case
-from tests.plain import (NOT_INTEGERS, STRANGE, all_counts, all_cuts, cuts_into,
+from tests.plain import (NOT_COLUMNS, NOT_CUTS, NOT_INTEGERS, all_counts, all_cuts, cuts_into,
                          least_error_of_cuts, pair_of, partitions, parts, plain_sums, some_counts,
                          total_error)
-from tests.test_histograms import NOT_CUTS
 
 SMALL = some_counts(15, 6, 3) + some_counts(10, 4, 4, most=2) + [(0,), (9,), (0, 9, 0, 9), (5, 5, 5)]
 WIDE = [(9,) * 12, (0, 9) * 6, (0, 1, 2, 3, 4, 5, 6, 7, 8, 9, 9, 0), (7, 1, 3, 3, 0, 9, 2, 2, 2, 8, 5, 4)]
-NOT_COLUMNS = STRANGE + ((1, 2), [1, 2], Histogram(1, (0,), (1,)))
 WITH_NUMBER = (best_squares, least_square, best_grouping, least_grouping)
 
 
@@ -150,6 +147,9 @@ class Changed(Case):
         for groups in wrong:
             self.is_shown(False, Grouping(groups, sums), self.column, 2)
         self.is_shown(True, Grouping(((1, 2), (0, 3)), sums), self.column, 2)
+        even = Column((4, 4, 4))
+        self.is_shown(True, Grouping(((0, 2), (1,)), best_grouping(even, 2).sums), even, 2)
+        self.is_shown(False, Grouping(((0, 1, 2), ()), best_grouping(even, 2).sums), even, 2)
         self.is_shown(False, Grouping(((1, 2), (0, 3)), sums), self.column, 3)
         self.is_shown(False, Grouping(((1, 2), (0, 3)), sums), self.column, 1)
 
@@ -164,8 +164,9 @@ class Changed(Case):
                     self.is_shown(False, make(answer, {**found.sums, key: other}), self.column, 2)
                 fewer = {other: found.sums[other] for other in found.sums if other != key}
                 self.is_shown(False, make(answer, fewer), self.column, 2)
-                renamed = {**fewer, key + (0,): found.sums[key]}
-                self.is_shown(False, make(answer, renamed), self.column, 2)
+                for other in (key + (0,), (9, 9), (0, 1), key[:1], key[0], None):
+                    renamed = {**fewer, other: found.sums[key]}
+                    self.is_shown(False, make(answer, renamed), self.column, 2)
             for key in ((3, 3), (0, 1), (1, 0), (2, 1), (1, 5), 1, "12", None, (1, 2, 3)):
                 self.is_shown(False, make(answer, {**found.sums, key: (0, 1)}), self.column, 2)
             self.is_shown(False, make(answer, {}), self.column, 2)
