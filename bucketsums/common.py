@@ -5,6 +5,7 @@ from bucketsums.errors import BadCuts, BadNumber, BadRange
 
 MOST_VALUES = 12
 MOST_COUNT = 9
+MOST_ROWS = 108
 
 # Each number from 1 to 12 divides it: so an error or an estimate times this
 # number is an integer, whatever the sizes of the buckets are.

@@ -54,7 +54,7 @@ class Conflict:
         return starts == ends[-1:] + ends[:-1] and sum([steps[step][2] for step in self.walk]) < 0
 
 
-def _is_note(note, values):
+def is_note(note, values):
     """Whether an item is a note for so many values."""
     if not isinstance(note, tuple) or len(note) != 4:
         return False
@@ -69,7 +69,7 @@ def check_notes(values, notes):
     if not isinstance(notes, (list, tuple)) or len(notes) > MOST_NOTES:
         raise BadNotes(None)
     for index, note in enumerate(notes):
-        if not _is_note(note, values):
+        if not is_note(note, values):
             raise BadNotes(index)
 
 

@@ -56,6 +56,11 @@ def all_ranges(width):
     return [(first, past) for first in range(width) for past in range(first + 1, width + 1)]
 
 
+def all_subsets(many):
+    """All ascending tuples of numbers from 0 on, below a limit."""
+    return [some for size in range(many + 1) for some in combinations(range(many), size)]
+
+
 def partitions(items, many):
     """All ways to put the items into this number of groups."""
     if not items:

@@ -71,6 +71,49 @@ JOINS = """
 [True, False]
 """
 
+GRIDS = """
+>>> from bucketsums.grids import Bits, Blocked, BoxEnds, box_ends, count_grids, nth_grid, reach_box, zero_one
+>>> rows, columns = (2, 1), (1, 2)
+>>> [box_ends(rows, columns, (0,), (0,)), count_grids(rows, columns), nth_grid(rows, columns, 0), nth_grid(rows, columns, 1), reach_box(rows, columns, (0,), (1,)).shows(rows, columns, (0,), (1,))]
+[(0, 1), 2, ((0, 2), (1, 0)), ((1, 1), (0, 1)), True]
+>>> [zero_one(rows, columns).grid, Blocked((0,)).shows((2, 0), (2, 0)), zero_one((2, 0), (2, 0)).shows((2, 0), (2, 0)), Bits(((0, 2), (1, 0))).shows(rows, columns), BoxEnds(((0, 2), (1, 0)), ((1, 1), (0, 1))).shows(rows, columns, (0,), (0,))]
+[((1, 1), (0, 1)), True, True, False, True]
+"""
+
+ASKS = """
+>>> from bucketsums.asks import best_cuts, best_worth, cuts_for_all, whole_ranges
+>>> asks = [(0, 2, 3), (2, 4, 2), (1, 4, 4)]
+>>> [whole_ranges(6, asks, (0, 1, 4)), [best_worth(6, asks, buckets) for buckets in (1, 2, 3, 4)], best_cuts(6, asks, 3), cuts_for_all(6, asks), cuts_for_all(4, [])]
+[[2], [0, 3, 5, 9], [(0, 2, 4)], (0, 1, 2, 4), (0,)]
+"""
+
+TEXTS = r"""
+>>> from bucketsums.histograms import Histogram
+>>> from bucketsums.texts import histogram_text, notes_text, read_histogram, read_notes
+>>> hist = Histogram(4, (0, 2), (4, 3))
+>>> [histogram_text(hist), read_histogram('0 to 0 has 9\n').totals, notes_text(3, [(0, 2, 3, 5)]), read_notes('values 2\n1 to 1 from 0 up to 9\n')]
+['0 to 1 has 4\n2 to 3 has 3\n', (9,), 'values 3\n0 to 1 from 3 up to 5\n', (2, [(1, 2, 0, 9)])]
+"""
+
+ABSOLUTE = """
+>>> from bucketsums.absolute import Absolute, best_absolute, bucket_error, fewest_buckets, least_error
+>>> from bucketsums.columns import Column
+>>> column = Column([1, 1, 5, 6])
+>>> [bucket_error(column, 0, 4), [least_error(column, buckets) for buckets in (1, 2, 3, 4)], best_absolute(column, 2).cuts, [fewest_buckets(column, error) for error in (0, 1, 8, 9)]]
+[9, [9, 1, 0, 0], (0, 2), [3, 2, 2, 1]]
+>>> [Absolute((0,), {(1, 1): 0, (1, 2): 0}).shows(Column([4, 4]), 1), Absolute((0,), {(1, 2): 0}).shows(Column([4, 4]), 1), best_absolute(column, 3).shows(column, 3)]
+[True, False, True]
+"""
+
+COLUMNS_WITH = """
+>>> from bucketsums.columns import Column
+>>> from bucketsums.columns_with import column_at, count_columns, index_of
+>>> from bucketsums.histograms import Histogram
+>>> hist = Histogram(3, (0, 2), (3, 1))
+>>> [[count_columns(hist, most) for most in (0, 1, 2, 9)], [column_at(hist, 9, index).counts for index in range(4)], index_of(hist, 2, Column([2, 1, 1]))]
+[[0, 0, 2, 4], [(0, 3, 1), (1, 2, 1), (2, 1, 1), (3, 0, 1)], 1]
+"""
+
 
 class Examples(unittest.TestCase):
     def run_example(self, name, text):
@@ -100,6 +143,21 @@ class Examples(unittest.TestCase):
 
     def test_joins(self):
         self.run_example("joins", JOINS)
+
+    def test_grids(self):
+        self.run_example("grids", GRIDS)
+
+    def test_asks(self):
+        self.run_example("asks", ASKS)
+
+    def test_texts(self):
+        self.run_example("texts", TEXTS)
+
+    def test_absolute(self):
+        self.run_example("absolute", ABSOLUTE)
+
+    def test_columns_with(self):
+        self.run_example("columns_with", COLUMNS_WITH)
 
 
 if __name__ == "__main__":

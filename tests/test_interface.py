@@ -33,6 +33,24 @@ FUNCTIONS = {
         "join_size": "one other", "join_ends": "one caps other late", "reach_join": "one caps other late",
         "join_estimate": "one caps other late",
     },
+    "grids": {
+        "box_ends": "rows columns some others", "reach_box": "rows columns some others",
+        "count_grids": "rows columns", "zero_one": "rows columns", "nth_grid": "rows columns number",
+    },
+    "asks": {
+        "whole_ranges": "values asks cuts", "best_worth": "values asks buckets",
+        "best_cuts": "values asks buckets", "cuts_for_all": "values asks",
+    },
+    "texts": {
+        "histogram_text": "hist", "notes_text": "values notes", "read_histogram": "text", "read_notes": "text",
+    },
+    "absolute": {
+        "bucket_error": "column first past", "best_absolute": "column buckets",
+        "least_error": "column buckets", "fewest_buckets": "column error",
+    },
+    "columns_with": {
+        "count_columns": "hist most", "column_at": "hist most index", "index_of": "hist most column",
+    },
 }
 CLASSES = {
     "columns": {
@@ -54,6 +72,12 @@ CLASSES = {
         "Conflict": {"__init__": "walk", "shows": "values notes", "__eq__": None},
     },
     "joins": {"Joined": {"__init__": "least greatest", "shows": "one caps other late", "__eq__": None}},
+    "grids": {
+        "BoxEnds": {"__init__": "least greatest", "shows": "rows columns some others", "__eq__": None},
+        "Bits": {"__init__": "grid", "shows": "rows columns", "__eq__": None},
+        "Blocked": {"__init__": "some", "shows": "rows columns", "__eq__": None},
+    },
+    "absolute": {"Absolute": {"__init__": "cuts table", "shows": "column buckets", "__eq__": None}},
 }
 
 
