@@ -114,6 +114,45 @@ COLUMNS_WITH = """
 [[0, 0, 2, 4], [(0, 3, 1), (1, 2, 1), (2, 1, 1), (3, 0, 1)], 1]
 """
 
+WAVELETS = """
+>>> from bucketsums.columns import Column
+>>> from bucketsums.wavelets import Kept, coefficients, column_of, keep_best, kept_counts, kept_error, least_lost
+>>> column = Column([3, 1, 0, 4])
+>>> [coefficients(column), column_of((8, 0, 2, -4)).counts, kept_counts(column, (0, 2)), kept_error(column, (0, 2)), [least_lost(column, many) for many in range(5)]]
+[(8, 0, 2, -4), (3, 1, 0, 4), ((3, 1), (1, 1), (2, 1), (2, 1)), (8, 1), [(26, 1), (10, 1), (2, 1), (0, 1), (0, 1)]]
+>>> [keep_best(column, 2).places, Kept((0, 3)).shows(column, 2), Kept((0, 2)).shows(column, 2), Kept((0, 2, 3)).shows(column, 3)]
+[(0, 3), True, False, True]
+"""
+
+SAMPLES = """
+>>> from bucketsums.columns import Column
+>>> from bucketsums.samples import expected_filled, expected_pairs, guess_filled, sample_ways, seen_chance
+>>> column = Column([2, 1, 1])
+>>> [seen_chance(column, 0, 2), seen_chance(column, 1, 2), expected_filled(column, 2), expected_pairs(column, 2), sample_ways(column, Column([1, 1, 0])), sample_ways(column, Column([0, 2, 0]))]
+[(5, 6), (1, 2), (11, 6), (1, 6), 2, 0]
+>>> [guess_filled(4, Column([1, 1, 0])), guess_filled(4, Column([2, 0, 0])), guess_filled(2, Column([1, 1, 0]))]
+[(4, 1), (-2, 1), (2, 1)]
+"""
+
+RANKS = """
+>>> from bucketsums.columns import Column
+>>> from bucketsums.ranks import Marks, below_bounds, fewest_ranks, keep_ranks, widest
+>>> column = Column([2, 0, 4, 1])
+>>> [[fewest_ranks(column, error) for error in (0, 1, 2, 3)], keep_ranks(column, 1).shows(column, 1), Marks((3,), (0,)).shows(column, 3), Marks((1, 4), (0, 3)).shows(column, 1)]
+[[7, 3, 2, 1], True, True, False]
+>>> [below_bounds(column, (1, 4), 2), below_bounds(column, (1, 4), 1), below_bounds(column, (), 3), widest(column, (1, 4)), widest(column, ())]
+[(2, 4), (2, 4), (0, 7), 2, 7]
+"""
+
+CROSSING = """
+>>> from bucketsums.crossing import Crossed, counters_of, cross_off, crossings, heavy, merge
+>>> stream = [1, 2, 1, 3, 1, 3]
+>>> [counters_of(stream, 2), crossings(stream, 2), counters_of(stream, 1), crossings(stream, 1), heavy(stream, 2), heavy(stream, 1)]
+[{1: 2, 3: 1}, 1, {}, 3, [1], []]
+>>> [Crossed({1: 2, 3: 1}, [(0, 1, 3)]).shows(stream, 2), Crossed({1: 2, 3: 1}, [(1, 2, 3)]).shows(stream, 2), cross_off(stream, 1).shows(stream, 1), merge({1: 2, 3: 1}, {2: 4, 3: 2}, 2)]
+[True, True, True, {2: 2, 3: 1}]
+"""
+
 
 class Examples(unittest.TestCase):
     def run_example(self, name, text):
@@ -158,6 +197,18 @@ class Examples(unittest.TestCase):
 
     def test_columns_with(self):
         self.run_example("columns_with", COLUMNS_WITH)
+
+    def test_wavelets(self):
+        self.run_example("wavelets", WAVELETS)
+
+    def test_samples(self):
+        self.run_example("samples", SAMPLES)
+
+    def test_ranks(self):
+        self.run_example("ranks", RANKS)
+
+    def test_crossing(self):
+        self.run_example("crossing", CROSSING)
 
 
 if __name__ == "__main__":

@@ -51,6 +51,22 @@ FUNCTIONS = {
     "columns_with": {
         "count_columns": "hist most", "column_at": "hist most index", "index_of": "hist most column",
     },
+    "wavelets": {
+        "coefficients": "column", "column_of": "numbers", "kept_counts": "column places",
+        "kept_error": "column places", "keep_best": "column many", "least_lost": "column many",
+    },
+    "samples": {
+        "seen_chance": "column value size", "expected_filled": "column size", "expected_pairs": "column size",
+        "sample_ways": "column sample", "guess_filled": "rows sample",
+    },
+    "ranks": {
+        "keep_ranks": "column error", "fewest_ranks": "column error", "below_bounds": "column kept value",
+        "widest": "column kept",
+    },
+    "crossing": {
+        "cross_off": "stream counters", "counters_of": "stream counters", "crossings": "stream counters",
+        "heavy": "stream counters", "merge": "one other counters",
+    },
 }
 CLASSES = {
     "columns": {
@@ -78,6 +94,9 @@ CLASSES = {
         "Blocked": {"__init__": "some", "shows": "rows columns", "__eq__": None},
     },
     "absolute": {"Absolute": {"__init__": "cuts table", "shows": "column buckets", "__eq__": None}},
+    "wavelets": {"Kept": {"__init__": "places", "shows": "column many", "__eq__": None}},
+    "ranks": {"Marks": {"__init__": "kept far", "shows": "column error", "__eq__": None}},
+    "crossing": {"Crossed": {"__init__": "counters groups", "shows": "stream counters", "__eq__": None}},
 }
 
 
