@@ -153,6 +153,40 @@ CROSSING = """
 [True, True, True, {2: 2, 3: 1}]
 """
 
+LIVE = """
+>>> from bucketsums.columns import Column
+>>> from bucketsums.live import LiveColumn
+>>> live = LiveColumn(Column([2, 0, 3]), (0, 1))
+>>> [live.add(1).totals, live.split(2).totals, live.join(1).totals, live.remove(0).totals, live.undo(), live.now.counts, live.parted, len(live)]
+[(2, 4), (2, 1, 3), (3, 3), (2, 3), ('remove', 0), (2, 1, 3), (0, 2), 3]
+"""
+
+HIDING = """
+>>> from bucketsums.hiding import Hidden, exposed, fewest_more, hidden_ends, is_exposed, reach_hidden
+>>> grid, every = ((1, 2), (3, 0)), ((0, 0), (0, 1), (1, 0), (1, 1))
+>>> [hidden_ends(grid, every, (0, 0)), exposed(grid, every), exposed(grid, every[:3]), fewest_more(grid, ((0, 0),), (0, 0)), is_exposed(grid, ((0, 0), (1, 1)), (1, 1))]
+[(1, 3), [], [(0, 0), (0, 1), (1, 0)], 3, True]
+>>> [Hidden(grid, ((3, 0), (1, 2)), ((1,), (0,)), ((0,), ())).shows(grid, every, (0, 0)), Hidden(grid, ((3, 0), (1, 2)), None, ((0,), ())).shows(grid, every, (0, 0)), reach_hidden(grid, every, (1, 1)).shows(grid, every, (1, 1))]
+[True, False, True]
+"""
+
+ROUNDING = """
+>>> from bucketsums.rounding import Rounded, count_roundings, round_grid
+>>> grid = ((1, 2), (3, 0))
+>>> [count_roundings(grid, 2), count_roundings(((2, 4),), 2), round_grid(grid, 5).shows(grid, 5), Rounded(((0, 2), (4, 0))).shows(grid, 2), Rounded(((2, 2), (4, 0))).shows(grid, 2)]
+[2, 1, True, True, False]
+"""
+
+RANKED = """
+>>> from bucketsums.histograms import Histogram
+>>> from bucketsums.ranked import Ranked, median_values, possible_values, reach_values
+>>> hist, caps = Histogram(4, (0, 2), (4, 3)), (3, 3)
+>>> [[possible_values(hist, caps, rank) for rank in (0, 2, 3, 4)], median_values(hist, caps), reach_values(hist, caps, 2).shows(hist, caps, 2)]
+[[[0], [0, 1], [1], [2, 3]], [1], True]
+>>> [Ranked({2: (3, 1, 1, 2), 3: (3, 1, 0, 3)}).shows(hist, caps, 4), Ranked({2: (3, 1, 1, 2)}).shows(hist, caps, 4), Ranked({0: (3, 1, 0, 3), 1: (3, 1, 0, 3)}).shows(hist, caps, 2)]
+[True, False, False]
+"""
+
 
 class Examples(unittest.TestCase):
     def run_example(self, name, text):
@@ -209,6 +243,18 @@ class Examples(unittest.TestCase):
 
     def test_crossing(self):
         self.run_example("crossing", CROSSING)
+
+    def test_live(self):
+        self.run_example("live", LIVE)
+
+    def test_hiding(self):
+        self.run_example("hiding", HIDING)
+
+    def test_rounding(self):
+        self.run_example("rounding", ROUNDING)
+
+    def test_ranked(self):
+        self.run_example("ranked", RANKED)
 
 
 if __name__ == "__main__":

@@ -67,6 +67,14 @@ FUNCTIONS = {
         "cross_off": "stream counters", "counters_of": "stream counters", "crossings": "stream counters",
         "heavy": "stream counters", "merge": "one other counters",
     },
+    "hiding": {
+        "hidden_ends": "grid hidden cell", "reach_hidden": "grid hidden cell", "is_exposed": "grid hidden cell",
+        "exposed": "grid hidden", "fewest_more": "grid hidden cell",
+    },
+    "rounding": {"round_grid": "grid base", "count_roundings": "grid base"},
+    "ranked": {
+        "possible_values": "hist caps rank", "reach_values": "hist caps rank", "median_values": "hist caps",
+    },
 }
 CLASSES = {
     "columns": {
@@ -97,6 +105,15 @@ CLASSES = {
     "wavelets": {"Kept": {"__init__": "places", "shows": "column many", "__eq__": None}},
     "ranks": {"Marks": {"__init__": "kept far", "shows": "column error", "__eq__": None}},
     "crossing": {"Crossed": {"__init__": "counters groups", "shows": "stream counters", "__eq__": None}},
+    "live": {
+        "LiveColumn": {"__init__": "column cuts", "__len__": "", "hist": "", "add": "value", "remove": "value",
+                       "split": "cut", "join": "cut", "undo": "", "branch": "", "trial": "", "attempt": "work"},
+    },
+    "hiding": {
+        "Hidden": {"__init__": "least greatest below above", "shows": "grid hidden cell", "__eq__": None},
+    },
+    "rounding": {"Rounded": {"__init__": "grid", "shows": "grid base", "__eq__": None}},
+    "ranked": {"Ranked": {"__init__": "columns", "shows": "hist caps rank", "__eq__": None}},
 }
 
 

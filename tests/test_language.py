@@ -1,7 +1,8 @@
 """The package keeps to its small subset of Python, as far as a test can see.
 
 The tests are named by the rules of LANGUAGE.md. The package uses less than the
-rules allow (no generators, no decorators, no `try`), which makes them simple.
+rules allow (no generators, no `try`, no decorator but `property`), which makes
+them simple.
 """
 import ast
 import builtins
@@ -24,14 +25,15 @@ METHODS = set(
     "zfill bit_length add discard".split())
 NO_NODES = (
     ast.GeneratorExp, ast.Global, ast.AsyncFunctionDef, ast.Await, ast.Yield, ast.YieldFrom, ast.Try,
-    ast.Div, ast.With, ast.Starred, ast.NamedExpr, ast.AnnAssign, ast.Set, ast.Import, ast.MatMult,
+    ast.Div, ast.Starred, ast.NamedExpr, ast.AnnAssign, ast.Set, ast.Import, ast.MatMult,
 )
 BARRED = set(
     "type typing typing_extensions enum Enum IntEnum StrEnum Flag Generic Protocol ABC ABCMeta namedtuple "
     "NamedTuple TypedDict abstractmethod register mro elements open input law version_info eval exec "
     "exit getattr setattr hasattr globals locals vars dir id help os sys super_ _outside _cold _record "
     "_written_out _member_names format format_map".split())
-DUNDERS = {"__init__", "__eq__", "__len__", "__getitem__", "__iter__"}
+DUNDERS = {"__init__", "__eq__", "__len__", "__getitem__", "__iter__", "__enter__", "__exit__"}
+KEYWORDS = {"sorted": {"reverse"}, "min": {"default"}, "max": {"default"}}
 
 
 def nodes(*kinds):
@@ -63,6 +65,17 @@ def local_names(tree):
                 if isinstance(inner, ast.arg):
                     found.add(inner.arg)
     return found
+
+
+def properties():
+    """Each property, with its file."""
+    return [(name, node) for name, node in nodes(ast.FunctionDef)
+            if [ast.unparse(one) for one in node.decorator_list] == ["property"]]
+
+
+def statements(function):
+    """The statements of a function behind its docstring."""
+    return function.body[1:] if ast.get_docstring(function) is not None else function.body
 
 
 def docstrings(tree):
@@ -115,8 +128,9 @@ class Language(unittest.TestCase):
                     ast.literal_eval(node.value)
 
     def test_l4_functions(self):
+        special = [node for _, node in properties()]
         for name, node in nodes(ast.FunctionDef):
-            self.assertEqual(node.decorator_list, [], name)
+            self.assertTrue(node.decorator_list == [] or node in special, name)
             self.assertIsNone(node.args.vararg)
             self.assertIsNone(node.args.kwarg)
             self.assertEqual(node.args.posonlyargs + node.args.kwonlyargs, [])
@@ -133,6 +147,34 @@ class Language(unittest.TestCase):
                 self.assertIn("__iter__", methods)
             if "shows" in methods:
                 self.assertIn("__eq__", methods)
+
+    def test_l5_properties(self):
+        special = [node.name for _, node in properties()]
+        own = [node.name for _, node in nodes(ast.FunctionDef)]
+        stored = {node.attr for _, node in nodes(ast.Attribute) if isinstance(node.ctx, ast.Store)}
+        for name, node in properties():
+            self.assertEqual(ast.unparse(node.args), "self", name)
+            # Nothing but a `return` of what is held, or of a copy of it: so nothing changes.
+            self.assertRegex(ast.unparse(statements(node)[0]), r"^return (self[a-z_.]+|list\(self[a-z_.]+\))$")
+            self.assertEqual(len(statements(node)), 1)
+            self.assertEqual(own.count(node.name), 1)
+            self.assertNotIn(node.name, METHODS | stored)
+        for name, node in nodes(ast.Call):
+            self.assertFalse(isinstance(node.func, ast.Attribute) and node.func.attr in special, name)
+
+    def test_l6_with(self):
+        contexts = {node.name for _, node in nodes(ast.ClassDef)
+                    if {"__enter__", "__exit__"} <= {item.name for item in node.body
+                                                     if isinstance(item, ast.FunctionDef)}}
+        for name, node in nodes(ast.With):
+            for item in node.items:
+                self.assertIn(item.context_expr.func.id, contexts, name)
+                self.assertIsInstance(item.optional_vars, (ast.Name, type(None)))
+        for name, node in nodes(ast.FunctionDef):
+            if node.name == "__exit__":
+                self.assertEqual(ast.unparse(node.args), "self, kind, value, trace", name)
+                for row in statements(node):
+                    self.assertRegex(ast.unparse(row), r"^(self[a-z_.]+ = self[a-z_.]+|return False)$", name)
 
     def test_l6_l7_nodes(self):
         for name, node in nodes(*NO_NODES):
@@ -151,7 +193,8 @@ class Language(unittest.TestCase):
             classes = {node.name for node in TREES[path].body if isinstance(node, ast.ClassDef)}
             self.assertEqual(local & (imported | classes), set(), path.name)
             used = {node.id for node in ast.walk(TREES[path]) if isinstance(node, ast.Name)}
-            self.assertEqual(used - set(bound) - local - ALLOWED_BUILTINS - {"super"}, set(), path.name)
+            self.assertEqual(used - set(bound) - local - ALLOWED_BUILTINS - {"super", "property"}, set(),
+                             path.name)
             self.assertEqual(imported - used, set(), path.name)
             for name in set(bound) | local:
                 self.assertRegex(name, r"^(_?[A-Za-z][A-Za-z0-9_]*|_)$")
@@ -197,6 +240,20 @@ class Language(unittest.TestCase):
                     attributes = {node.attr for node in ast.walk(part)
                                   if isinstance(node, ast.Attribute) and isinstance(node.ctx, ast.Store)}
                     self.assertEqual(methods & attributes, set(), part.name)
+
+    def test_l22_keywords(self):
+        for name, node in nodes(ast.Call):
+            if node.keywords:
+                self.assertLessEqual({item.arg for item in node.keywords}, KEYWORDS[node.func.id], name)
+
+    def test_l24_sets(self):
+        # A class has a method `add`, so no set is stored.
+        for name, node in nodes(ast.Assign):
+            self.assertNotIsInstance(node.value, (ast.Set, ast.SetComp), name)
+            self.assertNotRegex(ast.unparse(node.value), r"^set\(", name)
+        for name, node in nodes(ast.SetComp):
+            rows = [ast.unparse(item) for _, item in nodes(ast.Call) if node in item.args]
+            self.assertRegex(" ".join(rows), r"^(sorted|len)\(", name)
 
     def test_l27_powers(self):
         for name, node in nodes(ast.BinOp):
