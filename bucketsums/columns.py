@@ -1,6 +1,6 @@
 """Columns: for each value the number of rows that have it."""
 from bucketsums.common import MOST_COUNT, MOST_VALUES, are_between, check_range, is_between
-from bucketsums.errors import BadColumn, BadCounts, BadValue
+from bucketsums.errors import BadColumn, BadCounts, BadValue, Unlike
 
 
 class Column:
@@ -63,3 +63,11 @@ def check_column(column):
     """Raise BadColumn for what is not a column."""
     if not isinstance(column, Column):
         raise BadColumn("this is not a column")
+
+
+def check_alike(one, other):
+    """Raise BadColumn for what is not a column, Unlike for other numbers of values or of rows."""
+    check_column(one)
+    check_column(other)
+    if len(one) != len(other) or one.rows() != other.rows():
+        raise Unlike("the columns have different numbers of values or of rows")

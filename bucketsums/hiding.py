@@ -103,8 +103,8 @@ def _is_below(pair, grid, hidden, cell, least):
     if not _are_lines(pair, grid):
         return False
     rows, columns = pair
-    return (cell[0] not in rows and cell[1] in columns and _loose(hidden, rows, columns) == [cell]
-            and -_difference(grid, hidden, rows, columns) == least)
+    # So the row of the cell is not among the rows, and its column is among the columns.
+    return _loose(hidden, rows, columns) == [cell] and -_difference(grid, hidden, rows, columns) == least
 
 
 def _steps(grid, prices, cell):

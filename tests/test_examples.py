@@ -187,6 +187,52 @@ RANKED = """
 [True, False, False]
 """
 
+MEANS = """
+>>> from bucketsums.means import Ends, at_least, rank_values, reach_both
+>>> [at_least(4, 5, 8, 3), at_least(4, 5, 16, 2), at_least(3, 4, 7, 3), [rank_values(4, 5, 8, rank) for rank in range(4)]]
+[(0, 2), (4, 4), (1, 2), [(0, 2), (0, 2), (2, 4), (2, 4)]]
+>>> [Ends((2, 2, 2, 2), (4, 0, 4, 0)).shows(4, 5, 8, 3), Ends((4, 2, 2, 0), (4, 0, 4, 0)).shows(4, 5, 8, 3), reach_both(4, 5, 8, 3).shows(4, 5, 8, 3)]
+[True, False, True]
+"""
+
+MOVING = """
+>>> from bucketsums.columns import Column
+>>> from bucketsums.moving import Moved, farthest_row, fewest_changed, least_steps, move_rows
+>>> one, other = Column([3, 0, 1, 1]), Column([1, 2, 2, 0])
+>>> [least_steps(one, other), move_rows(one, other).flows, fewest_changed(one, other), farthest_row(one, other)]
+[3, (2, 0, -1), 3, 1]
+>>> [Moved((2, 0, -1), (0, 1, 1, 0)).shows(one, other), Moved((2, 0, -1), (0, 1, 0, 0)).shows(one, other), move_rows(other, one).shows(other, one)]
+[True, False, True]
+"""
+
+REFINING = """
+>>> from bucketsums.histograms import Histogram
+>>> from bucketsums.refining import Clash, Refined, do_agree, refine
+>>> one, other = Histogram(4, (0, 2), (5, 3)), Histogram(4, (0, 1, 3), (4, 3, 1))
+>>> [refine(one, other).finer.cuts, refine(one, other).finer.totals, do_agree(one, Histogram(4, (0,), (9,)))]
+[(0, 1, 2, 3), (4, 1, 2, 1), False]
+>>> [Clash(4, 4).shows(one, Histogram(4, (0,), (9,))), Clash(0, 2).shows(one, other), Clash(1, 2).shows(one, Histogram(4, (0, 1), (7, 1)))]
+[True, False, True]
+"""
+
+MOMENTS = """
+>>> from bucketsums.columns import Column
+>>> from bucketsums.moments import column_of_sums, fewest_sums, least_apart, power_sums, same_sums
+>>> column = Column([1, 0, 2])
+>>> [power_sums(column, 4), column_of_sums((3, 4, 8)).counts, [late.counts for late in same_sums(column, 2)], least_apart(column, 2), least_apart(column, 3), fewest_sums(column)]
+[(3, 4, 8, 16), (1, 0, 2), [(0, 2, 1), (1, 0, 2)], 3, None, 3]
+"""
+
+EVENER = """
+>>> from bucketsums.columns import Column
+>>> from bucketsums.evener import Evener, Uneven, evenest, fewest_transfers, is_evener, judge_evener
+>>> one, other = Column([0, 6, 1]), Column([3, 2, 2])
+>>> [fewest_transfers(one, other), is_evener(other, one), Uneven(1).shows(other, one), Uneven(3).shows(other, one), evenest(one)]
+[3, False, True, False, (3, 2, 2)]
+>>> [Evener([(0, 2), (0, 1), (0, 2)]).shows(one, other), Evener([(0, 1), (0, 1), (0, 1)]).shows(one, other), judge_evener(one, one).transfers]
+[True, False, []]
+"""
+
 
 class Examples(unittest.TestCase):
     def run_example(self, name, text):
@@ -255,6 +301,21 @@ class Examples(unittest.TestCase):
 
     def test_ranked(self):
         self.run_example("ranked", RANKED)
+
+    def test_means(self):
+        self.run_example("means", MEANS)
+
+    def test_moving(self):
+        self.run_example("moving", MOVING)
+
+    def test_refining(self):
+        self.run_example("refining", REFINING)
+
+    def test_moments(self):
+        self.run_example("moments", MOMENTS)
+
+    def test_evener(self):
+        self.run_example("evener", EVENER)
 
 
 if __name__ == "__main__":

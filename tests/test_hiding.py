@@ -247,6 +247,11 @@ class FewestMore(Case):
         self.assertEqual(fewest_more(grid, ((0, 0), (1, 2), (2, 0), (2, 2)), (0, 0)), 1)
         self.assertEqual(fewest_more(grid, ((0, 0), (1, 2), (2, 2)), (0, 0)), 2)
         self.assertEqual(fewest_more(((0, 1, 0), (0, 0, 1), (1, 0, 0)), ((0, 0),), (0, 0)), 3)
+        # To make the cell smaller, fewer are enough than to make it greater, and the other way round.
+        self.assertEqual(fewest_more(((1, 0, 1), (0, 1, 0), (1, 0, 0)), EVERY, (0, 0)), 0)
+        self.assertEqual(fewest_more(((1, 0, 1), (0, 1, 0), (1, 0, 0)), EVERY[:3], (0, 0)), 1)
+        self.assertEqual(fewest_more(((1, 1, 0), (1, 0, 0), (0, 0, 1)), EVERY, (0, 0)), 0)
+        self.assertEqual(fewest_more(((1, 1, 0), (1, 0, 0), (0, 0, 1)), EVERY[:3], (0, 0)), 1)
 
     def test_too_large(self):
         for height, width in ((4, 4), (3, 4), (4, 3)):
@@ -296,6 +301,13 @@ class Certificates(Case):
             self.is_shown(False, Hidden(grid, best.greatest, best.below, best.above), SQUARE, EVERY, (0, 0))
             self.is_shown(False, Hidden(best.least, grid, best.below, best.above), SQUARE, EVERY, (0, 0))
         self.is_shown(False, Hidden(best.greatest, best.least, best.below, best.above), SQUARE, EVERY, (0, 0))
+        # The totals and the cell are right, another cell is below 0.
+        grid, hidden = ((1, 1, 1), (1, 1, 1)), tuple((row, column) for row in range(2) for column in range(3))
+        best = reach_hidden(grid, hidden, (0, 0))
+        self.is_shown(True, Hidden(((0, 2, 1), (2, 0, 1)), best.greatest, None, best.above), grid, hidden, (0, 0))
+        self.is_shown(False, Hidden(((0, 3, 0), (2, -1, 2)), best.greatest, None, best.above), grid, hidden, (0, 0))
+        self.is_shown(True, Hidden(best.least, ((2, 1, 0), (0, 1, 2)), None, best.above), grid, hidden, (0, 0))
+        self.is_shown(False, Hidden(best.least, ((2, 2, -1), (0, 0, 3)), None, best.above), grid, hidden, (0, 0))
         # A cell that is not hidden has another count.
         grid, hidden = ((1, 1, 1), (1, 1, 1)), ((0, 0), (0, 1), (1, 0), (1, 1))
         best = reach_hidden(grid, hidden, (0, 0))

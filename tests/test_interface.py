@@ -75,6 +75,22 @@ FUNCTIONS = {
     "ranked": {
         "possible_values": "hist caps rank", "reach_values": "hist caps rank", "median_values": "hist caps",
     },
+    "means": {
+        "at_least": "rows width total value", "reach_both": "rows width total value",
+        "rank_values": "rows width total rank",
+    },
+    "moving": {
+        "least_steps": "one other", "move_rows": "one other", "fewest_changed": "one other",
+        "farthest_row": "one other",
+    },
+    "refining": {"refine": "one other", "do_agree": "one other"},
+    "moments": {
+        "power_sums": "column many", "column_of_sums": "sums", "same_sums": "column many",
+        "least_apart": "column many", "fewest_sums": "column",
+    },
+    "evener": {
+        "judge_evener": "one other", "is_evener": "one other", "fewest_transfers": "one other", "evenest": "column",
+    },
 }
 CLASSES = {
     "columns": {
@@ -114,6 +130,16 @@ CLASSES = {
     },
     "rounding": {"Rounded": {"__init__": "grid", "shows": "grid base", "__eq__": None}},
     "ranked": {"Ranked": {"__init__": "columns", "shows": "hist caps rank", "__eq__": None}},
+    "means": {"Ends": {"__init__": "least greatest", "shows": "rows width total value", "__eq__": None}},
+    "moving": {"Moved": {"__init__": "flows heights", "shows": "one other", "__eq__": None}},
+    "refining": {
+        "Refined": {"__init__": "finer", "shows": "one other", "__eq__": None},
+        "Clash": {"__init__": "first past", "shows": "one other", "__eq__": None},
+    },
+    "evener": {
+        "Evener": {"__init__": "transfers", "shows": "one other", "__eq__": None},
+        "Uneven": {"__init__": "many", "shows": "one other", "__eq__": None},
+    },
 }
 
 
